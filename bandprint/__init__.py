@@ -1,0 +1,1 @@
+"""Bandprint: rings of signs that run side by side and print on one another."""

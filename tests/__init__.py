@@ -1,0 +1,1 @@
+"""Tests of bandprint, by its interface alone."""
