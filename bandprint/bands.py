@@ -156,7 +156,7 @@ class Work:
         self._signs = signs
         self._bands = tuple(bands)
         self._presses = tuple(presses)
-        self._places = tuple(places_of(bands))
+        self._places = places_of(bands)
         self._numbers = {place: number for number, place in enumerate(self._places)}
 
     def __eq__(self, other):

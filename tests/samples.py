@@ -11,6 +11,7 @@ KEEP2 = ("ab", "ab")
 FLIP2 = ("ab", "ba")
 COPY2 = ("aa", "bb")
 FAR = 10 ** 60
+MIXED_ROWS = ("abcab", "cba", "bbca", "c")
 
 
 class Refusals(unittest.TestCase):
@@ -66,6 +67,11 @@ def mixed_work():
     return Work("abc", bands, presses)
 
 
+def mixed_course():
+    """The mixed work with puts and lifts near one another."""
+    return Course(mixed_work(), puts=[(4, ("e", 0), "a"), (9, ("ab", 2), "c")], lifts=[(5, 3, "up"), (8, 3, "down")])
+
+
 def wheels(longs, *, signs="ab"):
     """A work of bands without presses that each go on by one."""
     return Work(signs, [Band("abcdef"[at], long, pace=1) for at, long in enumerate(longs)])
@@ -110,22 +116,6 @@ def slow_run(course, rows, beats, begin=0):
     return told
 
 
-def slow_round(course, rows, begin=0):
-    """(from, round) of a course whose deeds are near begin, by looking back at all stands."""
-    last = max([begin] + [deed[0] for deed in course.puts() + course.lifts()])
-    for _ in range(last - begin):
-        begin += 1
-        rows = slow_beat(course, rows, begin)
-    seen = []
-    start = begin
-    while (rows, begin % course.work().common()) not in seen:
-        seen.append((rows, begin % course.work().common()))
-        begin += 1
-        rows = slow_beat(course, rows, begin)
-    first = seen.index((rows, begin % course.work().common()))
-    return first, len(seen) - first, start
-
-
 def some_work(chance, *, longs=(1, 2, 3, 4), presses=4, signs=("ab", "abc", "acxz")):
     """A work by chance, of at most three bands."""
     told = chance.choice(signs)
@@ -157,3 +147,63 @@ def some_course(chance, work, *, first=0, last=12):
 def chances(many, seed):
     """So many sources of chance, the same ones each time."""
     return [random.Random(seed * 1000 + at) for at in range(many)]
+
+
+def slow_walk(course, standing, start, beats):
+    """Standings from start on by single beats, at most so many, and (first, again) of the first two alike, or None."""
+    common = course.work().common()
+    told, stands = [standing], [(standing, start % common)]
+    for beat in range(start + 1, start + beats + 1):
+        standing = tuple(slow_beat(course, rows, beat) for rows in standing)
+        stand = (standing, beat % common)
+        if stand in stands:
+            return told, (stands.index(stand), len(stands))
+        told.append(standing)
+        stands.append(stand)
+    return told, None
+
+
+def slow_far(course, rows, beats, begin=0):
+    """Rows behind many beats, or of how many beats the first stretch is that is too long."""
+    last = begin + beats
+    stops = sorted({deed[0] for deed in course.puts() + course.lifts() if begin < deed[0] < last} | {last})
+    for stop in stops:
+        many = stop - begin
+        if many > 1000:
+            told, alike = slow_walk(course, (rows,), begin, 1000)
+            if alike is None:
+                return many
+            first, again = alike
+            begin = begin + first + (many - first - 1) // (again - first) * (again - first)
+            rows = told[first][0]
+        while begin < stop:
+            begin += 1
+            rows = slow_beat(course, rows, begin)
+    return rows
+
+
+def slow_seek(course, standing, begin, is_met):
+    """What first_seen tells, or of how many beats the first stretch is that is too long."""
+    start = begin
+    for stop in [*sorted({deed[0] for deed in course.puts() + course.lifts() if deed[0] > begin}), None]:
+        many = 1000 if stop is None else min(stop - start - 1, 1000)
+        told, alike = slow_walk(course, standing, start, many)
+        for at, each in enumerate(told):
+            if is_met(each):
+                return ("at", start + at - begin)
+        if stop is None:
+            return 1000 if alike is None else ("never", start - begin + alike[0], alike[1] - alike[0])
+        if alike is None and stop - start > 1000:
+            return stop - start
+        standing = tuple(slow_far(course, rows, stop - start, start) for rows in standing)
+        start = stop
+    return None
+
+
+def tail_course(tail):
+    """A course and rows that come to a round of 990 behind 10 or 11 beats: a sign that is wiped out once."""
+    rhythm, at = {10: ("x--", 0), 11: ("-x-", 9)}[tail]
+    bands = [Band("a", 9, pace=1), Band("b", 10, pace=1), Band("c", 11, pace=1), Band("d", 10, pace=1)]
+    work = Work("ab", bands, [Press(("d", 0), ("d", 0), ("aa", "aa"), rhythm=rhythm)])
+    last = "".join("b" if number == at else "a" for number in range(10))
+    return Course(work), (*one_marked(work)[:3], last)

@@ -85,7 +85,8 @@ class Presses(Refusals):
     def test_bounds(self):
         place = ("a", 11)
         self.assertEqual(Press(place, place, FLIP2).above(), Press(place, place, FLIP2).below())
-        for table in [("xy", "yx"), ("zz", "aa"), ("abc", "bca", "cab"), ("abcd",) * 4, ("qrst", "aaaa", "zzzz", "tsrq")]:
+        for table in [("xy", "yx"), ("zz", "aa"), ("abc", "bca", "cab"), ("abcd",) * 4,
+                      ("qrst", "aaaa", "zzzz", "tsrq")]:
             self.assertEqual(Press(place, ("b", 0), table).table(), table)
         for rhythm in ["x", "-", "xx", "------", "x-x-x-", "xxxxxx"]:
             self.assertEqual(Press(place, ("b", 0), FLIP2, rhythm=rhythm).rhythm(), rhythm)
@@ -98,7 +99,8 @@ class Presses(Refusals):
             self.refused(NoPress, {"field": "below"}, Press, ("b", 0), place, FLIP2)
 
     def test_refused_tables(self):
-        wrong = [("ab",), ("a",), ("ab", "ab", "ab"), ("abc", "abc"), ("ab", "a"), ("ab", "abc"), ("ab", "aB"), ("ab", "a1"),
+        wrong = [("ab",), ("a",), ("ab", "ab", "ab"), ("abc", "abc"), ("ab", "a"), ("ab", "abc"), ("ab", "aB"),
+                 ("ab", "a1"),
                  ("ab", ""), ("ab", None), ("ab", 12), ("ab", ("a", "b")), ("ab", ["a", "b"]), ["ab", "ba"], "ab",
                  {"ab": "ba"}, ("abcde",) * 5, (("ab", "ba"),), ("ab", "a\u00e9"), ("ab", "a "), (1, 2), 0,
                  ("ab", True), ("abcd", "abcd", "abcd"), (FLIP2, FLIP2), ("ab", {"a": 1, "b": 2})]
@@ -109,6 +111,8 @@ class Presses(Refusals):
         for rhythm in odd_things() + ["xxxxxxx", "X", "x ", "o", "x-o", "x\n", 0, ("x",), ["x"], ("x", "-")]:
             if rhythm != "-":
                 self.refused(NoPress, {"field": "rhythm"}, Press, ("a", 0), ("b", 0), FLIP2, rhythm=rhythm)
+        for letter in "abcdefghijklmnopqrstuvwyz":
+            self.refused(NoPress, {"field": "rhythm"}, Press, ("a", 0), ("b", 0), FLIP2, rhythm="x-" + letter)
 
     def test_the_first_that_is_due_is_told(self):
         self.refused(NoPress, {"field": "above"}, Press, None, None, None, rhythm=None)

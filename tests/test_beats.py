@@ -6,8 +6,8 @@ from bandprint.bands import Band, Press, Work
 from bandprint.beats import next_rows, presses_at, run
 from bandprint.courses import Course
 from bandprint.errors import NoRows
-from tests.samples import (FAR, FLIP2, Refusals, chances, mixed_work, slow_beat, slow_run, small_work, some_course,
-                           some_rows, some_work)
+from tests.samples import (FAR, FLIP2, MIXED_ROWS, Refusals, chances, mixed_course, mixed_work, slow_beat, slow_run,
+                           small_work, some_course, some_rows, some_work)
 from tests.test_rows import wrong_rows
 
 
@@ -52,7 +52,8 @@ class NextRows(Refusals):
     def test_by_hand(self):
         course = Course(small_work())
         rows = ("baa", "abab")
-        for beat, due in enumerate([("aba", "baba"), ("aab", "abab"), ("baa", "aaba"), ("aba", "abaa"), ("aab", "baaa")]):
+        for beat, due in enumerate([("aba", "baba"), ("aab", "abab"), ("baa", "aaba"), ("aba", "abaa"),
+                                    ("aab", "baaa")]):
             rows = next_rows(course, rows, beat)
             self.assertEqual(rows, due)
         self.assertEqual(next_rows(course=course, rows=("baa", "abab"), beat=0), ("aba", "baba"))
@@ -169,8 +170,8 @@ class Runs(unittest.TestCase):
                 self.assertEqual(run(course, rows, 15, begin=begin), slow_run(course, rows, 15, begin))
 
     def test_mixed_work(self):
-        rows = ("abcab", "cba", "bbca", "c")
-        course = Course(mixed_work(), puts=[(4, ("e", 0), "a"), (9, ("ab", 2), "c")], lifts=[(5, 3, "up"), (8, 3, "down")])
+        rows = MIXED_ROWS
+        course = mixed_course()
         self.assertEqual(run(course, rows, 40), slow_run(course, rows, 40))
 
     def test_longest(self):

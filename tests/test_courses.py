@@ -5,7 +5,8 @@ import unittest
 from bandprint.bands import Band, Press, Work
 from bandprint.courses import Course
 from bandprint.errors import NoCourse, NoPress
-from tests.samples import FAR, FLIP2, Refusals, chances, mixed_work, odd_things, slow_up, small_work, some_course, some_work
+from tests.samples import (FAR, FLIP2, Refusals, chances, mixed_work, odd_things, slow_up, small_work, some_course,
+                           some_work)
 
 PUTS = ((5, ("two", 3), "a"), (1, ("one", 0), "b"), (5, ("one", 2), "b"))
 LIFTS = ((3, 0, "up"), (0, 0, "down"))
@@ -70,7 +71,8 @@ class Courses(Refusals):
         wrong = [
             (0, ("one", 0), "a"), (-1, ("one", 0), "a"), (FAR + 1, ("one", 0), "a"), (True, ("one", 0), "a"),
             (1.0, ("one", 0), "a"), ("1", ("one", 0), "a"), (None, ("one", 0), "a"), ((1,), ("one", 0), "a"),
-            (1, ("one", 3), "a"), (1, ("three", 0), "a"), (1, ("one", True), "a"), (1, ["one", 0], "a"), (1, "one", "a"),
+            (1, ("one", 3), "a"), (1, ("three", 0), "a"), (1, ("one", True), "a"), (1, ["one", 0], "a"),
+            (1, "one", "a"),
             (1, ("one", -1), "a"), (1, ("one", 0.0), "a"), (1, None, "a"), (1, {}, "a"), (1, ("one", [0]), "a"),
             (1, ("one", 0, 0), "a"), (1, 0, "a"), (1, (["one"], 0), "a"),
             (1, ("one", 0), "c"), (1, ("one", 0), ""), (1, ("one", 0), "ab"), (1, ("one", 0), "A"), (1, ("one", 0), 0),
@@ -87,8 +89,10 @@ class Courses(Refusals):
     def test_refused_lifts(self):
         wrong = [
             (-1, 0, "up"), (FAR + 1, 0, "up"), (True, 0, "up"), (False, 0, "up"), (0.0, 0, "up"), ("0", 0, "up"),
-            (None, 0, "up"), ([0], 0, "up"), (0, 1, "up"), (0, -1, "up"), (0, True, "up"), (0, False, "up"), (0, 0.0, "up"),
-            (0, "0", "up"), (0, None, "up"), (0, [0], "up"), (0, ("one", 0), "up"), (0, 0, "Up"), (0, 0, ""), (0, 0, "ups"),
+            (None, 0, "up"), ([0], 0, "up"), (0, 1, "up"), (0, -1, "up"), (0, True, "up"), (0, False, "up"),
+            (0, 0.0, "up"),
+            (0, "0", "up"), (0, None, "up"), (0, [0], "up"), (0, ("one", 0), "up"), (0, 0, "Up"), (0, 0, ""),
+            (0, 0, "ups"),
             (0, 0, None), (0, 0, True), (0, 0, 1), (0, 0, ["up"]), (0, 0, ("up",)), (0, 0, "u"),
             [0, 0, "up"], (0, 0), (0, 0, "up", 0), (0, "up"), (), {0: 0}, "up", (0, FAR, "up"), (0, {}, "up"),
         ]
@@ -110,7 +114,8 @@ class Courses(Refusals):
         self.assertTrue(course == Course(small_work(), puts=list(PUTS), lifts=list(LIFTS)))
         self.assertFalse(course != Course(small_work(), puts=list(PUTS), lifts=list(LIFTS)))
         other_work = Work("ab", (Band("one", 3, pace=1), Band("two", 4)), small_work().presses())
-        for other in [Course(small_work(), puts=PUTS[::-1], lifts=LIFTS), Course(small_work(), puts=PUTS, lifts=LIFTS[::-1]),
+        for other in [Course(small_work(), puts=PUTS[::-1], lifts=LIFTS),
+                      Course(small_work(), puts=PUTS, lifts=LIFTS[::-1]),
                       Course(small_work(), puts=PUTS[1:], lifts=LIFTS), Course(small_work(), puts=PUTS),
                       Course(small_work(), lifts=LIFTS), Course(other_work, puts=PUTS, lifts=LIFTS),
                       Course(small_work(), puts=PUTS, lifts=(*LIFTS, LIFTS[-1]))]:
@@ -222,7 +227,8 @@ class Laid(unittest.TestCase):
         self.assertEqual(Course(small_work(), puts=PUTS).deed_beats(), [1, 5])
         self.assertEqual(Course(small_work(), lifts=LIFTS).deed_beats(), [0, 3])
         self.assertEqual(Course(small_work()).deed_beats(), [])
-        both = Course(small_work(), puts=[(7, ("one", 0), "a"), (2, ("one", 1), "a")], lifts=[(7, 0, "up"), (2, 0, "up")])
+        both = Course(small_work(), puts=[(7, ("one", 0), "a"), (2, ("one", 1), "a")],
+                      lifts=[(7, 0, "up"), (2, 0, "up")])
         self.assertEqual(both.deed_beats(), [2, 7])
         self.assertEqual(Course(small_work(), puts=[(10 ** 30, ("one", 0), "a")], lifts=[(FAR, 0, "up"), (9, 0, "up")]
                                 ).deed_beats(), [9, 10 ** 30, FAR])

@@ -15,7 +15,7 @@ def wrong_rows():
     texts = [None, True, 0, 1.0, "", "ab", "abab", "abc", "aBa", "a a", ("a", "b", "a"), ["a", "b", "a"], {}, ("aba",),
              small_work(), "ab\u00e9", "ab\n"]
     told = [((text, "bbab"), 0) for text in texts] + [((text, None), 0) for text in texts]
-    told = told + [(("aba", text), 1) for text in texts if text != "abab"] + [(("aba", "bbac"), 1), (("aba", "bbabb"), 1)]
+    told = told + [(("aba", text), 1) for text in texts + ["bbac", "bbabb"] if text != "abab"]
     shapes = [(), ("aba",), ("aba", "bbab", "a"), ["aba", "bbab"], "ababbab", None, 0, {"one": "aba", "two": "bbab"},
               (("aba", "bbab"),), "ab"]
     return told + [(shape, -1) for shape in shapes + [thing for thing in odd_things() if thing != (True, False)]]

@@ -130,7 +130,8 @@ class Works(Refusals):
 
     def test_refused_places(self):
         work = small_work()
-        wrong = [("one", 3), ("two", 4), ("three", 0), ("one", -1), ("one", True), ("one", False), ("one", 0.0), ("one", 1.0),
+        wrong = [("one", 3), ("two", 4), ("three", 0), ("one", -1), ("one", True), ("one", False), ("one", 0.0),
+                 ("one", 1.0),
                  ["one", 0], ("one", 0, 0), ("one",), "one", 0, (("one", 0),), ("one", "0"), ("one", [0]), (["one"], 0),
                  ("one", 10 ** 60), ({}, 0), ("one", {})]
         for place in odd_things() + wrong:
@@ -143,7 +144,8 @@ class Works(Refusals):
                     [Press(("one", 0), ("two", 0), FLIP2), Press(("two", 3), ("one", 2), COPY2, rhythm="x-")])
         self.assertTrue(work == same)
         self.assertFalse(work != same)
-        for other in [Work("ab", BANDS[::-1], PRESSES), Work("ab", BANDS, PRESSES[::-1]), Work("ab", BANDS, PRESSES[:1]),
+        for other in [Work("ab", BANDS[::-1], PRESSES), Work("ab", BANDS, PRESSES[::-1]),
+                      Work("ab", BANDS, PRESSES[:1]),
                       Work("ab", BANDS), Work("ab", [*BANDS, Band("c", 1)], PRESSES),
                       Work("ab", [Band("one", 3, pace=-2), BANDS[1]], PRESSES),
                       Work("ab", BANDS, [PRESSES[0], Press(("two", 3), ("one", 2), KEEP2, rhythm="x-")])]:
