@@ -13,6 +13,11 @@ _MOST_BEATS_OF_RHYTHM = 6
 _FASTEST = 10 ** 12
 
 
+def is_long(thing):
+    """Whether a thing is a whole number of places that a band may have."""
+    return is_within(thing, 1, _LONGEST_BAND)
+
+
 def is_pace(thing):
     """Whether a thing is a whole number that a band may go on by at a beat."""
     return is_within(thing, -_FASTEST, _FASTEST)
@@ -24,7 +29,7 @@ class Band:
     def __init__(self, name, long, *, pace=0):
         if not is_name(name):
             raise NoBand("name")
-        if not is_within(long, 1, _LONGEST_BAND):
+        if not is_long(long):
             raise NoBand("long")
         if not is_pace(pace):
             raise NoBand("pace")
@@ -49,9 +54,14 @@ class Band:
         return self._pace
 
 
+def is_side_number(thing):
+    """Whether a thing is the number of a place at which a press may have a side."""
+    return is_within(thing, 0, _LONGEST_BAND - 1)
+
+
 def is_side(thing):
     """Whether a thing is a place at which a press may have a side."""
-    return is_place(thing) and thing[1] < _LONGEST_BAND
+    return is_place(thing) and is_side_number(thing[1])
 
 
 def is_table(thing):
@@ -125,6 +135,11 @@ def places_of(bands):
 def band_called(work, name):
     """The band of a work that has this name."""
     return [band for band in work.bands() if band.called() == name][0]
+
+
+def names_and_longs(work):
+    """The bands' names and longs, in order."""
+    return [(band.called(), band.long()) for band in work.bands()]
 
 
 def is_press_for(thing, signs, places):

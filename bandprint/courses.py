@@ -7,12 +7,27 @@ from bandprint.signs import LAST_BEAT, is_listed, is_sign, is_within
 _MOST_DEEDS = 12
 
 
+def is_put_beat(thing):
+    """Whether a thing is a beat at which a sign may be laid."""
+    return is_within(thing, 1, LAST_BEAT)
+
+
+def is_lift_beat(thing):
+    """Whether a thing is a beat at which a press may be lifted."""
+    return is_within(thing, 0, LAST_BEAT)
+
+
+def is_lift_word(thing):
+    """Whether a thing is one of the words of a lift."""
+    return thing == "up" or thing == "down"
+
+
 def is_put(work, thing):
     """Whether a thing is a tuple (beat, place, sign) of the work, its beat from 1 on."""
     if not isinstance(thing, tuple) or len(thing) != 3:
         return False
     beat, place, sign = thing
-    return is_within(beat, 1, LAST_BEAT) and work.has_place(place) and is_sign(work.signs(), sign)
+    return is_put_beat(beat) and work.has_place(place) and is_sign(work.signs(), sign)
 
 
 def is_lift(work, thing):
@@ -20,7 +35,7 @@ def is_lift(work, thing):
     if not isinstance(thing, tuple) or len(thing) != 3:
         return False
     beat, press, word = thing
-    return is_within(beat, 0, LAST_BEAT) and work.has_press(press) and (word == "up" or word == "down")
+    return is_lift_beat(beat) and work.has_press(press) and is_lift_word(word)
 
 
 class Course:

@@ -21,6 +21,15 @@ def need_rows(work, rows):
             raise NoRows(number)
 
 
+def are_rows(work, thing):
+    """Whether a thing, of anything, is rows of the work."""
+    try:
+        need_rows(work, thing)
+    except NoRows:
+        return False
+    return True
+
+
 def rows_of(work, signs):
     """The rows of a list of signs, one for each place of the work in order."""
     texts = []

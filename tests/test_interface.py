@@ -23,6 +23,26 @@ FUNCTIONS = {
              "map_round(signs, one)", "times_to(signs, one, other)", "is_one_to_one(signs, one)",
              "sources(signs, one, sign)"],
     "web": ["web(work)", "round_of_all(work)", "ever(work, wish)"],
+    "needs": ["asked(course, sightings, *, begin=0)", "needed_presses(course, sightings, *, begin=0)"],
+    "trees": ["tree_of(course, sightings, *, begin=0)"],
+    "treelooks": ["shows_tree(course, sightings, thing, *, begin=0)"],
+    "boxes": ["boxes(work, tree)", "how_many(found)", "has(work, found, rows)", "first_rows(work, found)",
+              "sure(work, found)"],
+    "blame": ["blame(course, sightings, *, begin=0)", "shows_blame(course, sightings, thing, *, begin=0)"],
+    "shown": ["shown(course, look, *, begin=0)", "shows_shown(course, look, thing, *, begin=0)",
+              "would(course, sightings, look, *, begin=0)", "best_look(course, sightings, looks, *, begin=0)"],
+    "both": ["both_show(one, look, other, look_there, *, begin=0)",
+             "shows_both(one, look, other, look_there, thing, *, begin=0)"],
+    "alike": ["alike(one, other, windows, beats, *, begin=0)",
+              "echoes(course, place, other, delay, beats, *, begin=0)",
+              "shows_alike(one, other, windows, beats, thing, *, begin=0)",
+              "shows_echoes(course, place, other, delay, beats, thing, *, begin=0)"],
+    "puts": ["wish_sightings(wish, beats, *, begin=0)", "lacks(work, box, rows, *, prices=None)",
+             "fewest_puts(course, rows, wish, beats, *, begin=0, prices=None)"],
+    "meets": ["meeting(cases)", "head_start(one, other)", "least_with(rests, rounds, *, least=0)"],
+    "hall": ["Hall()"],
+    "texts": ["show_work(work)", "show_course(course)", "show_rows(work, rows)", "show_tree(nodes)",
+              "read_work(text)", "read_course(text)", "read_rows(work, text)", "read_tree(text)"],
 }
 
 METHODS = {
@@ -32,6 +52,11 @@ METHODS = {
                         "common(self)", "__len__(self)", "__eq__(self, other)"],
     ("courses", "Course"): ["work(self)", "puts(self)", "lifts(self)", "works(self, press, beat)", "laid(self, beat)",
                             "deed_beats(self)", "__eq__(self, other)"],
+    ("hall", "Hall"): ["do(self, deed)", "several(self, deeds)", "undo(self)", "redo(self)", "names(self)",
+                       "sort_of(self, name)", "work(self, name)", "stand(self, name)", "beginning(self, name)",
+                       "rows(self, name)", "course(self, name)", "looks(self, name)", "tree(self, name)",
+                       "how_many(self, name)", "sure(self, name)", "may_be(self, name, rows)", "has(self, name)",
+                       "__eq__(self, other)", "__len__(self)"],
 }
 
 
