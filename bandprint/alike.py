@@ -63,7 +63,7 @@ def are_parted(plan, there, pairs, trees, rows):
 def is_first_look(plan, pairs, number, look):
     """Whether a thing, of anything, is the first look of the pair of this number."""
     beat, place = look
-    return is_whole(beat) and plan.work().has_place(place) and number < len(pairs) and look == pairs[number][0]
+    return is_whole(beat) and plan.work().has_place(place) and look == pairs[number][0]
 
 
 def alike(one, other, windows, beats, *, begin=0):

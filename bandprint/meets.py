@@ -102,22 +102,24 @@ def meeting(cases):
     return ("never", parts, rows)
 
 
-def next_number(found, number, top):
-    """The first number of a case from a number, at most top, on, or None."""
-    for each in range(number, top + found.many):
-        if found.has_number(each):
-            return each
-    return None
+def next_numbers(found, top):
+    """For each number below top the first number of a case from it on, or None."""
+    told = []
+    following = None
+    for number in range(top + found.many - 1, -1, -1):
+        if found.has_number(number):
+            following = number
+        if number < top:
+            told.append(following)
+    return told[::-1]
 
 
 def starts_ahead(one, other, top):
     """Pairs (d, n) of the numbers n of the other case below top, d the least for each."""
     told = []
-    for number in range(top):
-        if other.has_number(number):
-            meets = next_number(one, number, top)
-            if meets is not None:
-                told.append((meets - number, number))
+    for number, met in enumerate(next_numbers(one, top)):
+        if met is not None and other.has_number(number):
+            told.append((met - number, number))
     return told
 
 

@@ -9,7 +9,7 @@ from bandprint.trees import tree_of
 
 def part_sighting(beat, part):
     """A part of a wish as a sighting behind a beat; of what is no part, what is no sighting."""
-    if not isinstance(part, tuple) or len(part) != 2:
+    if not isinstance(part, tuple):
         return (beat, part)
     return (beat, *part)
 

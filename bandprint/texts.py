@@ -117,7 +117,7 @@ def may_follow(word, last, order):
         return word == "signs"
     if last == "signs":
         return word == "band"
-    return word in order[1:] and order.index(word) >= order.index(last)
+    return word in order and order.index(word) >= order.index(last)
 
 
 def words_in_order(text, order):

@@ -165,6 +165,12 @@ class Looks(Refusals):
                         None,
                         ["0", "2"], [0, None], {0: 0, 2: 2}, [0, 3], [0, 2, 3], [1, 2], [0, [2]], "02"]:
             self.assertFalse(self.lets((numbers, self.TREE, rows)), numbers)
+        turned = [self.TREE[0], ("clashes", 0), ("clashes", 1)]
+        self.assertTrue(self.lets(([2, 3], turned, rows[::-1])))
+        self.assertFalse(self.lets(([2, 0], turned, rows[::-1])))
+        self.assertFalse(self.lets(([2, -1], turned, rows[::-1])))
+        self.assertFalse(self.lets(([-1, 2], self.TREE, rows)))
+        self.assertFalse(self.lets(([-4, 2], self.TREE, rows)))
         self.assertFalse(self.lets(([], [("fits",)], [])))
         self.assertFalse(shows_blame(Course(small_work()), [], ([], [("fits",)], [])))
         self.assertFalse(shows_blame(Course(small_work()), [], ([], [], [])))

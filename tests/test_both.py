@@ -241,6 +241,16 @@ class Looks(Refusals):
             self.assertFalse(self.lets(("same", [self.TREE[0], leaf, ("same",)])), leaf)
             self.assertFalse(self.lets(("same", [self.TREE[0], ("same",), leaf])), leaf)
 
+    def test_leaves_that_tell_they_are_unlike(self):
+        told = ("same", [self.TREE[0], ("same",), ("unlike",)])
+        self.assertEqual(slow_both(two(FLIP2), (1, B), two(KEEP2), (1, B)), told[1])
+        self.assertFalse(self.lets(told, one=two(FLIP2), other=two(KEEP2)))
+        self.assertFalse(self.lets(("unlike", told[1]), one=two(FLIP2), other=two(KEEP2)))
+
+    def test_rows_by_another_word(self):
+        for word in ["same", "Unlike", "parts", "", None, 0, ("unlike",), ["unlike"]]:
+            self.assertFalse(self.lets((word, ("b", "a")), one=two(FLIP2), other=two(KEEP2)), word)
+
     def test_rows(self):
         flip, keep = two(FLIP2), two(KEEP2)
         for rows in all_rows(flip.work()):

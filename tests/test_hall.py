@@ -169,7 +169,7 @@ class NoDeeds(Refusals):
         self.assertEqual(all_of(hall), before)
 
     def test_anything(self):
-        self.no_deed(small_hall(), *odd_things(), 5, "drop", ["drop", "s"], {"drop": "s"}, ("drop",), (("drop", "s"),))
+        self.no_deed(small_hall(), *odd_things(), (), 5, "drop", ["drop", "s"], {"drop": "s"}, ("drop",), (("drop", "s"),))
 
     def test_words_and_counts(self):
         good = [("work", "v", small_work()), ("change", "w", small_work()), ("stand", "t", "w", 0, ROWS),
@@ -700,8 +700,22 @@ class Told(Refusals):
         self.assertNotEqual(small_hall(), hall_of(("work", "w", small_work()), ("stand", "s", "w", 5, ("aba", "abbb"))))
         for thing in odd_things():
             self.assertFalse(one == thing)
+        self.assertFalse(one == {"w": small_work()})
         self.assertEqual(Hall(), Hall())
         self.assertNotEqual(Hall(), one)
+
+    def test_stands_that_are_unlike_in_one_thing(self):
+        still, wiped = Work("ab", [Band("a", 1)]), Work("ab", [Band("a", 1)], [Press(("a", 0), ("a", 0), ("aa", "aa"))])
+        works = [("work", "v", still), ("work", "w", still), ("work", "x", wiped)]
+        one = hall_of(*works, ("stand", "s", "v", 5, ("a",)), ("run", "s", 1))
+        for name, begin, rows, beats in [("w", 5, "a", 1), ("v", 6, "a", 0), ("v", 5, "b", 1), ("v", 5, "a", 2)]:
+            other = hall_of(*works, ("stand", "s", name, begin, (rows,)), ("run", "s", beats))
+            self.assertFalse(one == other)
+            other.several([("drop", "s"), ("stand", "s", "v", 5, ("a",)), ("run", "s", 1)])
+            self.assertTrue(one == other)
+        same = [hall_of(*works, ("stand", "s", "x", 5, (rows,)), ("run", "s", 1)) for rows in "ab"]
+        self.assertEqual(same[0].rows("s"), same[1].rows("s"))
+        self.assertFalse(same[0] == same[1])
 
     def test_a_change_to_what_shows_the_same_is_never_refused(self):
         for chance in chances(20, 142):

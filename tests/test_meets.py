@@ -10,7 +10,7 @@ from bandprint.courses import Course
 from bandprint.errors import TooLong, TooMany
 from bandprint.firsts import when_seen
 from bandprint.meets import head_start, least_with, meeting
-from tests.samples import (FAR, Refusals, chances, one_marked, slow_run, slow_walk, some_rows, some_work, tail_course,
+from tests.samples import (FAR, Refusals, chances, one_marked, slow_walk, some_rows, some_work, tail_course,
                            wheels)
 from tests.test_firsts import LONG, NEVER, slow_met, some_wish
 
@@ -149,15 +149,19 @@ class Meeting(Refusals):
         self.assertEqual(meeting([once, wheel(3, 1)]), ("never", [(4, 1, ()), (0, 3, (1,))], []))
 
     def test_rounds_far_beyond(self):
-        cases = [(wheels(longs), one_marked(wheels(longs)), 0, [(("a", 0), "b"), (("b", 0), "b"), (("c", 0), "b")])
-                 for longs in [(7, 11, 12), (5, 9, 11), (8, 9, 7)]]
+        def marked(longs, number):
+            """A case of wheels whose marks stand together behind so many beats, and behind their round more."""
+            rows = tuple("".join("b" if (at + number) % long == 0 else "a" for at in range(long)) for long in longs)
+            return (wheels(longs), rows, 0, [((name, 0), "b") for name in "abc"[:len(longs)]])
+
+        cases = [marked((7, 11, 12), 923), marked((5, 9, 11), 494), marked((8, 9, 7), 503)]
         told = meeting(cases)
-        self.assertEqual([part[:2] for part in told[1 if told[0] == "never" else 2]], [(0, 924), (0, 495), (0, 504)])
-        work, rows, _, wish = cases[0]
-        shifted = [(work, slow_run(Course(work), rows, 923)[-1], 0, wish), cases[1],
-                   (cases[2][0], slow_run(Course(cases[2][0]), cases[2][1], 503)[-1], 0, cases[2][3])]
-        told = meeting(shifted)
-        self.assertEqual(told[0], "never" if 1 % math.gcd(924, 495) else "at")
+        self.assertEqual([part[:2] for part in told[2]], [(0, 924), (0, 495), (0, 504)])
+        number = math.lcm(924, 495, 504) - 1
+        self.assertEqual(told[1:], (number, [(0, 924, (923,)), (0, 495, (494,)), (0, 504, (503,))],
+                                    [((923, 494, 503), "least", number)]))
+        told = meeting([marked((7, 11, 12), 923), marked((5, 9, 11), 0)])
+        self.assertEqual((told[0], told[2]), ("never", [((923, 0), "apart", 0, 1)]))
         primes = [wheel(11, 10), (wheels((7, 9)), one_marked(wheels((7, 9))), 0, [(("a", 1), "b"), (("b", 1), "b")]),
                   wheel(5, 3), wheel(8, 6)]
         told = meeting(primes)
@@ -233,6 +237,18 @@ class LeastWith(Refusals):
         self.assertEqual(least_with([2, 3, 2], (3, 5, 7), least=23), 23)
         self.assertEqual(least_with(rests=[2, 3, 2], rounds=[3, 5, 7], least=0), 23)
         self.assertRaises(TypeError, least_with, [2], [3], 0)
+
+    def test_from_nought_on(self):
+        self.assertEqual(least_with([0], [5]), 0)
+        self.assertEqual(least_with([0, 0], [5, 4]), 0)
+        self.assertEqual(least_with([], []), 0)
+        self.assertEqual(least_with([0], [5], least=1), 5)
+
+    def test_what_is_no_rest(self):
+        # No number leaves it.
+        for rest in [5, 6, -1, 10]:
+            self.assertIsNone(least_with([rest], [5]))
+            self.assertIsNone(least_with([0, rest], [3, 5], least=FAR))
 
     def test_of_none(self):
         for least in [0, 1, 7, FAR]:

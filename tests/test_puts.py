@@ -148,6 +148,12 @@ class FewestPuts(Refusals):
         self.refused(NoRows, {"number": -1}, fewest_puts, course, list(rows), wish, 2)
         self.assertEqual(len(sightings), 1)
 
+    def test_no_rows_though_never(self):
+        laid = Course(small_work(), puts=[(1, ("two", 0), "a")])
+        for rows, number in [(list(ROWS), -1), (("aba",), -1), (("abba", "aba"), 0), (("aba", "abbc"), 1)]:
+            self.refused(NoRows, {"number": number}, fewest_puts, laid, rows, [(("two", 0), "b")], 1)
+            self.refused(NoRows, {"number": number}, fewest_puts, laid, rows, [(("two", 0), "a")], 1)
+
     def test_told_lists_are_the_asker_s(self):
         course, wish = Course(small_work()), [(("two", 0), "a")]
         told = fewest_puts(course, ROWS, wish, 1)

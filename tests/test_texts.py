@@ -2,7 +2,7 @@
 
 import unittest
 
-from bandprint.bands import Band, Press, Work
+from bandprint.bands import Band, Work
 from bandprint.courses import Course
 from bandprint.errors import NoRows, Unread
 from bandprint.texts import (read_course, read_rows, read_tree, read_work, show_course, show_rows, show_tree, show_work)

@@ -246,6 +246,10 @@ class Bent(Refusals):
                       ("two", -3)]:
             self.assertFalse(self.lets([("split", place, (("b", 1), ("a", 2))), *left]), place)
 
+    def test_splits_by_other_words(self):
+        for word in ["Split", "part", "", None, 0, ("split",), ["split"]]:
+            self.assertFalse(self.lets([(word, *self.TREE[0][1:]), *self.TREE[1:]]), word)
+
     def test_parts_that_are_not_so(self):
         left = self.TREE[1:]
         for parts in [(("b", 1),), (("a", 2),), (("b", 1), ("a", 2), ("", 3)), (("b", 1), ("b", 2)),
