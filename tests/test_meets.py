@@ -330,6 +330,12 @@ class HeadStart(Refusals):
         self.assertEqual(head_start(once(3), wheel(5, 4)), ("never",))
         self.assertEqual(head_start(once(5), wheel(5, 2)), ("ahead", 3, 2))
         self.assertEqual(head_start(wheel(5, 2), once(3)), ("ahead", 4, 3))
+        # The first one's number at the end of its first round, and not a round ahead, when the other sign was there yet.
+        case, rows, begin, wish = late(11, 9, 8)
+        last = (case, rows, begin, wish + [(("b", 11), "a")])
+        self.assertEqual(meeting([last])[1:3], (19, [(9, 11, (8,))]))
+        self.assertEqual(head_start(last, once(3)), ("ahead", 16, 3))
+        self.assertEqual(head_start(once(3), last), ("never",))
 
     def test_number_by_number(self):
         told = []
