@@ -72,7 +72,8 @@ def alike(one, other, windows, beats, *, begin=0):
     trees, rows = go_through(Plan(one, begin, beats), Plan(other, begin, beats), pairs)
     if rows is None:
         return ("alike", trees)
-    return ("parts", trees, *pairs[len(trees)][0], rows)
+    beat, place = pairs[len(trees)][0]
+    return ("parts", trees, beat, place, rows)
 
 
 def shows_alike(one, other, windows, beats, thing, *, begin=0):
@@ -96,7 +97,8 @@ def echoes(course, place, other, delay, beats, *, begin=0):
     trees, rows = go_through(plan, plan, pairs)
     if rows is None:
         return ("echoes", trees)
-    return ("parts", trees, pairs[len(trees)][0][0], rows)
+    beat, _ = pairs[len(trees)][0]
+    return ("parts", trees, beat, rows)
 
 
 def shows_echoes(course, place, other, delay, beats, thing, *, begin=0):

@@ -22,7 +22,8 @@ def steps_of_both(plan, look, there, look_there):
     stood = plan.stood(*look)
     stood_there = there.stood(*look_there)
     ends = [("compare", 0, stood, 1, stood_there)]
-    return [*steps_of(plan, 0, [(look[0], stood, [])]), *steps_of(there, 1, [(look_there[0], stood_there, ends)])]
+    steps = steps_of(plan, 0, [(look[0], stood, [])])
+    return steps + steps_of(there, 1, [(look_there[0], stood_there, ends)])
 
 
 def differ(plan, look, there, look_there, rows):
@@ -37,7 +38,7 @@ def rows_apart(plan, look, there, look_there, box):
     stood_there = there.stood(*look_there)
     for sign in box[stood]:
         for sign_there in box[stood_there]:
-            signs = [signs[0] for signs in box]
+            signs = [text[0] for text in box]
             signs[stood] = sign
             signs[stood_there] = sign_there
             rows = rows_of(plan.work(), signs)

@@ -144,4 +144,5 @@ def head_start(one, other):
     told = starts_ahead(first, second, top) + start_behind(first, second, top)
     if not told:
         return ("never",)
-    return ("ahead", *min(told))
+    ahead, number = min(told)
+    return ("ahead", ahead, number)

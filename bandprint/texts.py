@@ -37,7 +37,7 @@ def show_course(course):
     """A course as a text."""
     puts = [f"put {beat} {show_place(place)} {sign}" for beat, place, sign in course.puts()]
     lifts = [f"lift {beat} {press} {word}" for beat, press, word in course.lifts()]
-    return "\n".join([*work_rows(course.work()), *puts, *lifts])
+    return "\n".join(work_rows(course.work()) + puts + lifts)
 
 
 def show_rows(work, rows):
@@ -105,7 +105,7 @@ def fits_behind(words):
     if words[0] == "band":
         return [is_name, long_word, pace_word]
     if words[0] == "press":
-        return [is_name, side_word, is_name, side_word, is_rhythm, *table_fits(words)]
+        return [is_name, side_word, is_name, side_word, is_rhythm] + table_fits(words)
     if words[0] == "put":
         return [put_beat_word, is_name, is_number, is_letter]
     return [lift_beat_word, is_number, is_lift_word]
