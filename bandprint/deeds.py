@@ -35,9 +35,14 @@ def names_sign(deed):
     return is_place(deed[2]) and are_letters(deed[3]) and len(deed[3]) == 1
 
 
+def is_press_number(thing):
+    """Whether a thing is the number of a press that some work may have."""
+    return is_within(thing, 0, _LAST_PRESS)
+
+
 def names_press(deed):
     """Whether a press's number and a word stand behind the name."""
-    return is_within(deed[2], 0, _LAST_PRESS) and is_lift_word(deed[3])
+    return is_press_number(deed[2]) and is_lift_word(deed[3])
 
 
 def names_place(deed):

@@ -7,10 +7,9 @@ from bandprint.bands import names_and_longs
 from bandprint.errors import Full, Needed, NoName, Seen, Taken, Unfit
 from bandprint.rows import are_rows, sign_at
 from bandprint.signs import is_sign
-from bandprint.stands import begun_stand, run_to, signs_looked_at
+from bandprint.stands import MOST_LOOKS, begun_stand, run_to, signs_looked_at
 
 _MOST_DEEDS = 12
-_MOST_LOOKS = 30
 
 
 def need_new(works, stands, name):
@@ -124,7 +123,7 @@ def do_look(works, stands, deed):
     work = works[stand.work_name]
     if not work.has_place(place):
         raise Unfit(name)
-    if len(stand.past_looks) >= _MOST_LOOKS:
+    if len(stand.past_looks) >= MOST_LOOKS:
         raise Full(name)
     sign = sign_at(work, stand.rows_now, place)
     stands[name] = stand.with_more(past_looks=((stand.beat, place, sign),))

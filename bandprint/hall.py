@@ -136,3 +136,11 @@ class Hall:
         found = self._boxes(name)
         work = self._work_of(name)
         return are_rows(work, rows) and has(work, found, rows)
+
+
+def hall_of(works, stands):
+    """A hall of these works and stands, dicts by their names, in which nothing is to be undone."""
+    hall = Hall()
+    hall._works = dict(works)
+    hall._stands = dict(stands)
+    return hall

@@ -56,3 +56,11 @@ def turned_map(signs, one):
 def sources(signs, one, sign):
     """The signs, rising, that become this one."""
     return "".join([elder for elder, heir in zip(signs, one) if heir == sign])
+
+
+def press_maps(press):
+    """For each sign above the map by which a press turns the one below; of one place each sign turns itself."""
+    if press.above() != press.below():
+        return list(press.table())
+    own = "".join([text[at] for at, text in enumerate(press.table())])
+    return [own for _ in press.table()]

@@ -4,6 +4,8 @@ from bandprint.courses import Course
 from bandprint.rounds import behind
 from bandprint.signs import DEEPEST
 
+MOST_LOOKS = 30
+
 
 class Stand:
     """A stand; it never changes, what is done to it makes another one."""

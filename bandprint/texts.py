@@ -8,6 +8,7 @@ from bandprint.signs import are_letters, are_signs, is_name
 from bandprint.words import is_letter, is_number, is_number_so, is_rising, need_words, rows_in
 
 _WORK_WORDS = ("signs", "band", "press")
+_HAND_WORDS = ("put", "lift")
 _COURSE_WORDS = ("signs", "band", "press", "put", "lift")
 
 
@@ -33,17 +34,27 @@ def show_work(work):
     return "\n".join(work_rows(work))
 
 
-def show_course(course):
-    """A course as a text."""
+def hand_rows(course):
+    """The rows of a course's puts, then of its lifts."""
     puts = [f"put {beat} {show_place(place)} {sign}" for beat, place, sign in course.puts()]
     lifts = [f"lift {beat} {press} {word}" for beat, press, word in course.lifts()]
-    return "\n".join(work_rows(course.work()) + puts + lifts)
+    return puts + lifts
+
+
+def show_course(course):
+    """A course as a text."""
+    return "\n".join(work_rows(course.work()) + hand_rows(course))
+
+
+def band_rows(work, rows):
+    """The rows that write rows of a work."""
+    need_rows(work, rows)
+    return [f"row {band.called()} {text}" for band, text in zip(work.bands(), rows)]
 
 
 def show_rows(work, rows):
     """Rows of a work as a text."""
-    need_rows(work, rows)
-    return "\n".join([f"row {band.called()} {text}" for band, text in zip(work.bands(), rows)])
+    return "\n".join(band_rows(work, rows))
 
 
 def show_node(node):
@@ -120,18 +131,16 @@ def may_follow(word, last, order):
     return word in order and order.index(word) >= order.index(last)
 
 
-def words_in_order(text, order):
-    """How many rows a text has, and the words of its rows by their first ones, refused with the first that isn't so."""
-    rows = rows_in(text)
+def words_in_order(rows, order, *, first=0, last=None):
+    """The words of rows, counted from first on, by their first ones, refused with the first row that isn't so."""
     found = {word: [] for word in order}
-    last = None
-    for row, words in enumerate(rows):
+    for row, words in enumerate(rows, start=first):
         if not may_follow(words[0], last, order):
             raise Unread(row, 0)
         need_words(row, words, fits_behind(words))
         last = words[0]
         found[last].append(words)
-    return len(rows), found
+    return found
 
 
 def band_of(words):
@@ -145,29 +154,53 @@ def press_of(words):
 
 
 def work_of(found):
-    """The work of words by their first ones."""
+    """The work of words by their first ones; of no words at all there is none."""
+    signs = [words[1] for words in found["signs"]]
     bands = [band_of(words) for words in found["band"]]
-    return Work(found["signs"][0][1], bands, [press_of(words) for words in found["press"]])
+    return Work("".join(signs), bands, [press_of(words) for words in found["press"]])
+
+
+def work_in(rows, *, first=0):
+    """The work that rows write, counted from first on."""
+    found = words_in_order(rows, _WORK_WORDS, first=first)
+    try:
+        return work_of(found)
+    except NoWork:
+        raise Unread(first + len(rows), 0) from None
 
 
 def read_work(text):
     """The work that a text writes."""
-    many, found = words_in_order(text, _WORK_WORDS)
-    try:
-        return work_of(found)
-    except NoWork:
-        raise Unread(many, 0) from None
+    return work_in(rows_in(text))
+
+
+def puts_of(found):
+    """The puts of words by their first ones."""
+    return [(int(beat), (name, int(number)), sign) for _, beat, name, number, sign in found["put"]]
+
+
+def lifts_of(found):
+    """The lifts of words by their first ones."""
+    return [(int(beat), int(press), word) for _, beat, press, word in found["lift"]]
 
 
 def read_course(text):
     """The course that a text writes."""
-    many, found = words_in_order(text, _COURSE_WORDS)
-    puts = [(int(beat), (name, int(number)), sign) for _, beat, name, number, sign in found["put"]]
-    lifts = [(int(beat), int(press), word) for _, beat, press, word in found["lift"]]
+    rows = rows_in(text)
+    found = words_in_order(rows, _COURSE_WORDS)
     try:
-        return Course(work_of(found), puts=puts, lifts=lifts)
+        return Course(work_of(found), puts=puts_of(found), lifts=lifts_of(found))
     except (NoWork, NoCourse):
-        raise Unread(many, 0) from None
+        raise Unread(len(rows), 0) from None
+
+
+def hands_in(work, rows, *, first):
+    """The course of a work with the puts and lifts that rows write, counted from first on."""
+    found = words_in_order(rows, _HAND_WORDS, first=first, last=_HAND_WORDS[0])
+    try:
+        return Course(work, puts=puts_of(found), lifts=lifts_of(found))
+    except NoCourse:
+        raise Unread(first + len(rows), 0) from None
 
 
 def row_fits(work, band):
@@ -178,17 +211,21 @@ def row_fits(work, band):
     ]
 
 
-def read_rows(work, text):
-    """The rows of a work that a text writes."""
-    rows = rows_in(text)
+def texts_in(work, rows, *, first=0):
+    """The rows of a work that rows write, counted from first on."""
     bands = work.bands()
     for row, words in enumerate(rows):
         if row == len(bands) or words[0] != "row":
-            raise Unread(row, 0)
-        need_words(row, words, row_fits(work, bands[row]))
+            raise Unread(first + row, 0)
+        need_words(first + row, words, row_fits(work, bands[row]))
     if len(rows) < len(bands):
-        raise Unread(len(rows), 0)
+        raise Unread(first + len(rows), 0)
     return tuple([words[2] for words in rows])
+
+
+def read_rows(work, text):
+    """The rows of a work that a text writes."""
+    return texts_in(work, rows_in(text))
 
 
 def node_fits(words):
