@@ -21,14 +21,20 @@ def printed(work, press, signs):
     return press.table()[work.signs().index(above)][work.signs().index(below)]
 
 
-def beat_done(course, rows, beat):
-    """Rows behind a beat, from 1 on, of rows behind the one ahead of it, as they are without asking."""
-    work = course.work()
+def signs_printed(work, rows, numbers):
+    """What becomes of rows when the bands have moved and the presses of these numbers have printed, a list of signs."""
     presses = work.presses()
     moved = [gone_round(text, band.pace()) for band, text in zip(work.bands(), rows)]
     signs = list("".join(moved))
-    for number in presses_at(course, beat):
+    for number in numbers:
         signs[work.place_in(presses[number].below())] = printed(work, presses[number], signs)
+    return signs
+
+
+def beat_done(course, rows, beat):
+    """Rows behind a beat, from 1 on, of rows behind the one ahead of it, as they are without asking."""
+    work = course.work()
+    signs = signs_printed(work, rows, presses_at(course, beat))
     for place, sign in course.laid(beat):
         signs[work.place_in(place)] = sign
     return rows_of(work, signs)

@@ -11,14 +11,14 @@ from bandprint.signs import MOST
 
 
 class Numbers:
-    """The numbers of a case: from some number on they come again by a round."""
+    """The numbers of a case: from the first one told on they come again by so many."""
 
-    def __init__(self, case):
+    def __init__(self, case, first, many):
         work, rows, begin, wish = case
-        course = Course(work)
-        self.first, self.many = round_of(course, rows, begin=begin)
         parts = numbered(work, wish)
-        stands = run(course, rows, self.first + self.many - 1, begin=begin)
+        stands = run(Course(work), rows, first + many - 1, begin=begin)
+        self.first = first
+        self.many = many
         self.met = [has_all(each, parts) for each in stands]
 
     def has_number(self, number):
@@ -30,6 +30,13 @@ class Numbers:
     def rests(self, top):
         """The rests behind top, which is no less than the first number that comes again."""
         return sorted([number % self.many for number in range(top, top + self.many) if self.has_number(number)])
+
+
+def numbers_of(case):
+    """The numbers of a case by its least first one and its least round."""
+    work, rows, begin, _ = case
+    first, many = round_of(Course(work), rows, begin=begin)
+    return Numbers(case, first, many)
 
 
 def inverse(number, many):
@@ -56,13 +63,29 @@ def least_with(rests, rounds, *, least=0):
     return least + (rest - least) % many
 
 
-def rows_of_rests(parts):
-    """All rows of one rest from each part, the first part's slowest, refused where there are too many."""
+def parts_of(found, top):
+    """What is told of each of some cases: (from, round, the rests behind top)."""
+    return [(each.first, each.many, tuple(each.rests(top))) for each in found]
+
+
+def met_ahead(found, top):
+    """The least number below top that all of some cases have, or None."""
+    for number in range(top):
+        if all([each.has_number(number) for each in found]):
+            return number
+    return None
+
+
+def how_many_rows(parts):
+    """How many rows of one rest from each part there are."""
     many = 1
     for _, _, rests in parts:
         many = many * len(rests)
-    if many > MOST:
-        raise TooMany(MOST)
+    return many
+
+
+def rows_of_rests(parts):
+    """All rows of one rest from each part, the first part's slowest."""
     rows = [()]
     for _, _, rests in parts:
         rows = [(*row, rest) for row in rows for rest in rests]
@@ -86,20 +109,26 @@ def told_row(rests, rounds, top):
     return (rests, "least", least_with(rests, rounds, least=top))
 
 
-def meeting(cases):
-    """("at", n, parts, rows), the least number that is one of all cases, or ("never", parts, rows)."""
-    found = [Numbers(case) for case in cases]
-    top = max([each.first for each in found])
-    parts = [(each.first, each.many, tuple(each.rests(top))) for each in found]
-    for number in range(top):
-        if all([each.has_number(number) for each in found]):
-            return ("at", number, parts, [])
-    rounds = [many for _, many, _ in parts]
-    rows = [told_row(rests, rounds, top) for rests in rows_of_rests(parts)]
+def told_by_rows(parts, rows):
+    """What is told of parts of which no early number is one of all, by all rows of their rests."""
     leasts = [row[2] for row in rows if row[1] == "least"]
     if leasts:
         return ("at", min(leasts), parts, rows)
     return ("never", parts, rows)
+
+
+def meeting(cases):
+    """("at", n, parts, rows), the least number that is one of all cases, or ("never", parts, rows)."""
+    found = [numbers_of(case) for case in cases]
+    top = max([each.first for each in found])
+    parts = parts_of(found, top)
+    early = met_ahead(found, top)
+    if early is not None:
+        return ("at", early, parts, [])
+    if how_many_rows(parts) > MOST:
+        raise TooMany(MOST)
+    rounds = [many for _, many, _ in parts]
+    return told_by_rows(parts, [told_row(rests, rounds, top) for rests in rows_of_rests(parts)])
 
 
 def next_numbers(found, top):
@@ -139,7 +168,7 @@ def start_behind(one, other, top):
 
 def head_start(one, other):
     """("ahead", d, n), the least d for which n is a number of the other case and n + d of the first, or ("never",)."""
-    first, second = Numbers(one), Numbers(other)
+    first, second = numbers_of(one), numbers_of(other)
     top = max(first.first, second.first)
     told = starts_ahead(first, second, top) + start_behind(first, second, top)
     if not told:

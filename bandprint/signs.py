@@ -24,6 +24,16 @@ def is_listed(thing):
     return isinstance(thing, (list, tuple))
 
 
+def is_just(thing, told):
+    """Whether a thing, of anything, is what is told, of texts, whole numbers, lists and tuples; kinds too."""
+    if not isinstance(told, (list, tuple)):
+        # True equals 1, and so does 1.0.
+        return is_whole(thing) == is_whole(told) and thing == told
+    if not is_listed(thing) or isinstance(thing, list) != isinstance(told, list) or len(thing) != len(told):
+        return False
+    return all([is_just(part, due) for part, due in zip(thing, told)])
+
+
 def are_letters(thing):
     """Whether a thing is a text of small letters, a to z, and of nothing else."""
     return isinstance(thing, str) and all([letter in _LETTERS for letter in thing])
