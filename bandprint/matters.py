@@ -6,17 +6,24 @@ from bandprint.shown import shown, shows_shown
 from bandprint.sights import need_look, sign_shown
 
 
-def common_signs(box, other):
-    """For each place the first sign that two boxes have there in common, "" where there is none."""
-    return ["".join([sign for sign in signs if sign in others])[:1] for signs, others in zip(box, other)]
+def common_sign(signs, others):
+    """The first sign that two texts have in common, or None."""
+    for sign in signs:
+        if sign in others:
+            return sign
+    return None
 
 
 def pair_in(work, number, box, other):
     """Rows of two boxes that are alike but at the place of a number, or None; no rows lie in both boxes."""
-    signs = common_signs(box, other)
-    if "" in signs[:number] + signs[number + 1:]:
-        return None
-    return [rows_of(work, signs[:number] + [each[number][0]] + signs[number + 1:]) for each in (box, other)]
+    one, there = [], []
+    for at, (signs, others) in enumerate(zip(box, other)):
+        common = common_sign(signs, others)
+        if at != number and common is None:
+            return None
+        one.append(signs[0] if at == number else common)
+        there.append(others[0] if at == number else common)
+    return (rows_of(work, one), rows_of(work, there))
 
 
 def pair_by(work, number, leaves):

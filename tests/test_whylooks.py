@@ -96,7 +96,7 @@ class Looks(Refusals):
                  prints[:1] + prints, [*prints, (9, 0, "a")]]
         for at, each in enumerate(prints):
             wrong.append(with_item(prints, at))
-            wrong.append(with_item(prints, at, list(each)))
+            wrong += [with_item(prints, at, other) for other in [list(each), None, 5, "abc", {}, (each,)]]
             wrong.append(with_item(prints, at, each[:2]))
             wrong.append(with_item(prints, at, (*each, "a")))
             for item in range(3):
