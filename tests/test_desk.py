@@ -212,7 +212,8 @@ class NoAsks(Refusals):
             words = head.split(" ")
             wrong = [" ".join(words[:at] + [""] + words[at:]) for at in range(len(words) + 1)]
             wrong += [head + " a", head + " a 0 b a", " ".join(words[:-1]), head.upper(), head[0].upper() + head[1:],
-                      head.replace(" ", "\t"), head.replace(" ", ", "), "x" + head, words[0] + "s" + head[len(words[0]):]]
+                      head.replace(" ", "\t"), head.replace(" ", ", "), "x" + head,
+                      words[0] + "s" + head[len(words[0]):]]
             self.no_ask(small_desk(), *[each + feed + text for each in wrong if each != head])
         self.no_ask(small_desk(), "", " ", "\n", "ok", "none", "help", "tree s", "signs ab", "stand s w", "has s")
 
@@ -301,13 +302,13 @@ class RefusedTexts(Refusals):
         for row in ["run none 1", "put none six 0 z", "lift none 7 up", "look none two 1", "drop none", "twin none t",
                     "change none\n" + SMALL, "beat none", "rows none", "looks none", "many none", "sure none"]:
             self.refuse(NoName, {"name": "none"}, small_desk(), row)
-        for row in ["run w 1", "put w two 1 a", "lift w 0 up", "look w two 1", "twin w t", "beat w", "rows w", "looks w",
-                    "many w", "sure w", "first w one 0 b", "fewest w 1 one 0 b"]:
+        for row in ["run w 1", "put w two 1 a", "lift w 0 up", "look w two 1", "twin w t", "beat w", "rows w",
+                    "looks w", "many w", "sure w", "first w one 0 b", "fewest w 1 one 0 b"]:
             self.refuse(NoName, {"name": "w"}, small_desk(), row)
         self.refuse(NoName, {"name": "s"}, small_desk(), "change s\n" + SMALL)
         self.refuse(Needed, {"name": "w", "by": "s"}, small_desk(), "drop w")
-        self.refuse(Unfit, {"name": "s"}, small_desk(), "put s two 4 a", "put s six 0 a", "put s two 1 z", "lift s 1 up",
-                    "look s two 4", "look s six 0")
+        self.refuse(Unfit, {"name": "s"}, small_desk(), "put s two 4 a", "put s six 0 a", "put s two 1 z",
+                    "lift s 1 up", "look s two 4", "look s six 0")
         self.refuse(Unfit, {"name": "w"}, small_desk(), "change w\nsigns ab\nband one 3 1",
                     "change w\n" + SMALL.replace("signs ab", "signs ac").replace("ab ba", "ac ca"))
         self.refuse(Full, {"name": "s"}, small_desk(*["put s two 1 a"] * 12), "put s two 1 a", "lift s 0 up")

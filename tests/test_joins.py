@@ -112,7 +112,8 @@ class Apart(Refusals):
                          [((0, 1, 4, 5), (0, 2, 3, 4)), ((2, 3), (1, 5))])
         self.assertEqual([each[:2] for each in apart(bound("abc", ["bb", "bb"]))],
                          [((0,), ()), ((1,), (0, 1)), ((2,), ())])
-        self.assertEqual([each[:2] for each in apart(course=Course(mixed_work()))], [((0, 1, 2, 3), (0, 1, 2, 3, 4, 5))])
+        self.assertEqual([each[:2] for each in apart(course=Course(mixed_work()))],
+                         [((0, 1, 2, 3), (0, 1, 2, 3, 4, 5))])
 
     def test_puts_and_lifts(self):
         work = bound("abcd", ["db", "aa", "cc", "bd", "aa"]).work()

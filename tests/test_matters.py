@@ -133,7 +133,8 @@ class LooksAtMatters(Refusals):
                   ("Yes", *self.YES[1:]), (True, *self.YES[1:]), ("yes",), ("no",), (), self.YES[1], no,
                   ("yes", no[1]), ("maybe", no[1]))
         self.lets(True, no, place=("one", 0))
-        self.lets(False, list(no), ("no", tuple(no[1])), (*no, no[1]), (*no, None, None), (*no, *self.YES[1:]), no[1], ("yes", no[1]), ("no", None), ("no", []),
+        self.lets(False, list(no), ("no", tuple(no[1])), (*no, no[1]), (*no, None, None),
+                  (*no, *self.YES[1:]), no[1], ("yes", no[1]), ("no", None), ("no", []),
                   *[("no", thing) for thing in odd_things()], place=("one", 0))
 
     def test_rows(self):

@@ -181,15 +181,16 @@ class Looks(Refusals):
         self.assertEqual(meeting(cases)[1], 7)
         parts, row = meeting(cases)[2], (1, 2)
         for number in [6, 8, 22, -8, 0]:
-            self.lets(False, cases, ("at", number, parts, [(row, "least", number)]), ("at", number, parts, [(row, "least", 7)]),
+            self.lets(False, cases, ("at", number, parts, [(row, "least", number)]),
+                      ("at", number, parts, [(row, "least", 7)]),
                       ("at", 7, parts, [(row, "least", number)]))
         early = [late(5, 7, 3), wheel(4, 3)]
         told = meeting(early)
         self.assertEqual((told[1], told[3]), (3, []))
         for number in [2, 4, 7, 23]:
             self.lets(False, early, ("at", number, told[2], []))
-        self.lets(False, early, ("at", 3, told[2], [((3, 3), "least", 23)]), ("at", 23, told[2], [((3, 3), "least", 23)]),
-                  ("never", told[2], []))
+        self.lets(False, early, ("at", 3, told[2], [((3, 3), "least", 23)]),
+                  ("at", 23, told[2], [((3, 3), "least", 23)]), ("never", told[2], []))
 
     def test_more_than_most_rows(self):
         # The answer is refused, the look isn't; a paper of all these rows is one.
@@ -207,8 +208,8 @@ class Looks(Refusals):
     def test_cases_without_a_round(self):
         long = (wheels(LONG), one_marked(wheels(LONG)), 0, [])
         self.refused(TooLong, {"beats": 1000}, meeting, [long])
-        self.lets(False, [long], None, ("at", 0, [(0, 1000, tuple(range(1000)))], [((n,), "least", n) for n in range(1000)]),
-                  ("never", [(0, 1, ())], []))
+        rows = [((number,), "least", number) for number in range(1000)]
+        self.lets(False, [long], None, ("at", 0, [(0, 1000, tuple(range(1000)))], rows), ("never", [(0, 1, ())], []))
         self.lets(False, [wheel(3, 1), long], meeting([wheel(3, 1)]))
         # From 11 and a round of 990 are too much together, whatever is told.
         course, rows = tail_course(11)
@@ -228,9 +229,10 @@ class Looks(Refusals):
         work, rows, begin, wish = good
         for thing in [None, meeting([good]), meeting([good, good])]:
             self.refused(NoRows, {"number": 0}, shows_meeting, [good, (work, ("ba",), begin, wish)], thing)
-            self.refused(NoRows, {"number": -1}, shows_meeting, [(work, ["baa"], begin, [(("b", 0), "b")]), good], thing)
-            self.refused(NoPlace, {"place": ("a", 3)}, shows_meeting, [good, (work, rows, begin, wish + [(("a", 3), "b")])],
-                         thing)
+            self.refused(NoRows, {"number": -1}, shows_meeting,
+                         [(work, ["baa"], begin, [(("b", 0), "b")]), good], thing)
+            self.refused(NoPlace, {"place": ("a", 3)}, shows_meeting,
+                         [good, (work, rows, begin, wish + [(("a", 3), "b")])], thing)
             self.refused(NoPlace, {"place": ("b", 0)}, shows_meeting,
                          [(work, rows, begin, [(("b", 0), "b")]), (work, None, begin, wish)], thing)
 

@@ -66,7 +66,8 @@ def knotty_work(chance):
         table = chance.choice([tuple(signs for _ in signs), tuple(signs[1:] + signs[0] for _ in signs),
                                tuple("".join(chance.sample(signs, len(signs))) for _ in signs),
                                tuple("".join(chance.choice(signs) for _ in signs) for _ in signs)])
-        presses.append(Press(above, below, table, rhythm=chance.choice(["x", "xx", "x", "xxx", "x-", "x-x-", "-", "--"])))
+        rhythm = chance.choice(["x", "xx", "x", "xxx", "x-", "x-x-", "-", "--"])
+        presses.append(Press(above, below, table, rhythm=rhythm))
     return Work(signs, bands, presses)
 
 
@@ -91,7 +92,8 @@ class Plain(Refusals):
                             ("-x-x-x", "-x"), ("x--x--", "x--"), ("x-x", "x-x"), ("x-xx-", "x-xx-"),
                             ("x-x-x", "x-x-x"),
                             ("xx-xx-", "xx-"), ("x---x-", "x---x-"), ("----x", "----x"), ("xxxx", "x")]:
-            self.assertEqual(self.plain_of(Press(A, B, FLIP2, rhythm=rhythm)), ([Press(A, B, FLIP2, rhythm=due)], [(0,)]))
+            self.assertEqual(self.plain_of(Press(A, B, FLIP2, rhythm=rhythm)),
+                             ([Press(A, B, FLIP2, rhythm=due)], [(0,)]))
 
     def test_left_out(self):
         still = [Press(A, B, FLIP2, rhythm="-"), Press(A, B, FLIP2, rhythm="----"), Press(A, B, KEEP2),
@@ -157,7 +159,8 @@ class Plain(Refusals):
             told, rows = plain(work)
             presses, numbers = slow_plain(work)
             self.assertEqual((told.presses(), rows), (presses, numbers))
-            self.assertEqual([band.pace() for band in told.bands()], [band.pace() % band.long() for band in work.bands()])
+            self.assertEqual([band.pace() for band in told.bands()],
+                             [band.pace() % band.long() for band in work.bands()])
             joins += any(len(each) > 1 for each in rows)
             self.assertEqual(plain(told), (told, [(at,) for at in range(len(rows))]))
             begin = some_rows(chance, work)

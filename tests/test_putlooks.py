@@ -164,7 +164,8 @@ class Looks(Refusals):
     def test_by_places_and_by_names(self):
         thing = tuple(self.TOLD)
         kept = list(thing[3])
-        self.assertTrue(shows_puts(course=self.COURSE, rows=ROWS, wish=WISH, beats=1, thing=thing, begin=0, prices=None))
+        self.assertTrue(shows_puts(course=self.COURSE, rows=ROWS, wish=WISH, beats=1, thing=thing, begin=0,
+                                   prices=None))
         self.assertRaises(TypeError, shows_puts, self.COURSE, ROWS, WISH, 1, thing, 0)
         self.assertEqual((thing[3], WISH), (kept, [(("two", 0), "a")]))
 

@@ -270,7 +270,8 @@ class HallsDesksAndTexts(Refusals):
             if hall.sort_of(name) == "work":
                 continue
             _, begin, beat = hall.stand(name)
-            self.assertEqual(hall.rows(name), behind(hall.course(name), hall.beginning(name), beat - begin, begin=begin))
+            self.assertEqual(hall.rows(name),
+                             behind(hall.course(name), hall.beginning(name), beat - begin, begin=begin))
             try:
                 self.assertIs(hall.may_be(name, hall.beginning(name)), True)
                 self.assertGreater(hall.how_many(name), 0)

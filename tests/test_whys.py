@@ -84,7 +84,8 @@ class Whys(Refusals):
         # By their own texts a becomes b, b a, and with the second press a stays.
         self.assertEqual(why(Course(work), ("a",), A, 2),
                          (("begins", A, "a"), [(1, 0, "a"), (2, 0, "b"), (2, 1, "a")], "a"))
-        self.assertEqual(why(Course(work), ("a",), A, 2, ahead=1), (("begins", A, "a"), [(1, 0, "a"), (2, 0, "b")], "a"))
+        self.assertEqual(why(Course(work), ("a",), A, 2, ahead=1),
+                         (("begins", A, "a"), [(1, 0, "a"), (2, 0, "b")], "a"))
         self.assertEqual(why(Course(work), ("a",), A, 2, ahead=0), (("begins", A, "a"), [(1, 0, "a")], "b"))
 
     def test_ahead_of_a_press_that_does_not_work(self):
